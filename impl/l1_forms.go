@@ -182,15 +182,21 @@ func (r *room) holds(f Form) bool {
 
 // endless reports whether f holds itself, as a slice can. The specification does not mention such forms, which
 // have no number of nodes, so what accepts invalid forms returns the zero value for them.
+func endless(f Form) bool {
+	return !FormValid(f) && holdsItself(&f, kidsOf)
+}
+
+func kidsOf(f *Form) []Form {
+	return f.Kids
+}
+
+// holdsItself reports whether a tree is one of its own parts, at any level.
 //
 // This and the walks below are loops, because an invalid form can be deeper than a stack of calls.
-func endless(f Form) bool {
-	if FormValid(f) {
-		return false
-	}
-	// A form is open from when its Kids are put on top of it until they are done.
-	open := map[*Form]bool{}
-	for work := []*Form{&f}; len(work) > 0; {
+func holdsItself[T any](tree *T, partsOf func(*T) []T) bool {
+	// A tree is open from when its parts are put on top of it until they are done.
+	open := map[*T]bool{}
+	for work := []*T{tree}; len(work) > 0; {
 		top := work[len(work)-1]
 		if _, known := open[top]; known {
 			open[top] = false
@@ -198,12 +204,13 @@ func endless(f Form) bool {
 			continue
 		}
 		open[top] = true
-		for i := range top.Kids {
-			kid := &top.Kids[i]
-			if open[kid] {
+		parts := partsOf(top)
+		for i := range parts {
+			part := &parts[i]
+			if open[part] {
 				return true
 			}
-			work = append(work, kid)
+			work = append(work, part)
 		}
 	}
 	return false
@@ -246,16 +253,20 @@ func pop[T any](work *[]T) T {
 // FormSame reports whether two forms are equal.
 func FormSame(a Form, b Form) bool {
 	// One look is enough: if a ends, so does the comparison.
-	if endless(a) {
-		return false
-	}
-	for work := [][2]*Form{{&a, &b}}; len(work) > 0; {
+	return !endless(a) && sameTrees(&a, &b, kidsOf, sameNode)
+}
+
+// sameTrees compares two trees, of which a does not hold itself, where same leaves their parts to it, but for their
+// number.
+func sameTrees[T any](a *T, b *T, partsOf func(*T) []T, same func(T, T) bool) bool {
+	for work := [][2]*T{{a, b}}; len(work) > 0; {
 		pair := pop(&work)
-		if !sameNode(*pair[0], *pair[1]) {
+		if !same(*pair[0], *pair[1]) {
 			return false
 		}
-		for i := range pair[0].Kids {
-			work = append(work, [2]*Form{&pair[0].Kids[i], &pair[1].Kids[i]})
+		parts, others := partsOf(pair[0]), partsOf(pair[1])
+		for i := range parts {
+			work = append(work, [2]*T{&parts[i], &others[i]})
 		}
 	}
 	return true
@@ -412,9 +423,13 @@ func ListForm(list []Form) (Form, bool) {
 	if !FormValid(f) {
 		return Form{}, false
 	}
-	return changedForm(f, copyScopes), true
+	return copyForm(f), true
 }
 
-func copyScopes(f *Form) {
-	f.Scopes = append([]int(nil), f.Scopes...)
+func copyForm(f Form) Form {
+	return changedForm(f, func(g *Form) { g.Scopes = append([]int(nil), g.Scopes...) })
+}
+
+func copyForms(list []Form) []Form {
+	return copyForm(Form{Kids: list}).Kids
 }

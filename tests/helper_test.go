@@ -1,6 +1,8 @@
 package tests
 
 import (
+	"fmt"
+	"slices"
 	"testing"
 
 	"loop.example/macroexpander/impl"
@@ -77,4 +79,39 @@ func spoil(f impl.Form) {
 		spoil(kids[i])
 		kids[i] = numForm(777)
 	}
+}
+
+// roomyCopy returns f where every slice has unused capacity, in which there are further values.
+func roomyCopy(f impl.Form) impl.Form {
+	scopes := append(slices.Clone(f.Scopes), 55, 66)
+	var kids []impl.Form
+	for _, kid := range f.Kids {
+		kids = append(kids, roomyCopy(kid))
+	}
+	kids = append(kids, numForm(8), nameForm("beyond", 9))
+	f.Scopes, f.Kids = scopes[:len(f.Scopes)], kids[:len(f.Kids)]
+	return f
+}
+
+// memoryOfForm returns a text of all memory of a form, with its unused capacity.
+func memoryOfForm(f impl.Form) string {
+	text := fmt.Sprint(f.Kind, f.Name, f.N, f.Scopes[:cap(f.Scopes)], len(f.Scopes), len(f.Kids))
+	for _, kid := range f.Kids[:cap(f.Kids)] {
+		text += "(" + memoryOfForm(kid) + ")"
+	}
+	return text
+}
+
+// parseAll returns the forms in the list with this text.
+func parseAll(t *testing.T, text string) []impl.Form {
+	t.Helper()
+	return parse(t, text).Kids
+}
+
+func textOf(forms []impl.Form) string {
+	return impl.FormatForm(listForm(forms...))
+}
+
+func spoilForms(forms []impl.Form) {
+	spoil(listForm(forms...))
 }
