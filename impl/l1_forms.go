@@ -141,18 +141,23 @@ func FormValid(f Form) bool {
 	return new(room).holds(f)
 }
 
-// room counts the nodes of a form that is checked or read, in all and on the way down to where it is.
-// Counting both on the way bounds the work for a form of any size.
+// room counts the nodes of a tree that is checked or read, in all and on the way down to where it is.
+// Counting both on the way bounds the work for a tree of any size.
 type room struct {
 	nodes int
 	depth int
 }
 
-// enter reports whether there is room for one more node below those that were entered and not left.
+// enter reports whether a form has room for one more node below those that were entered and not left.
 func (r *room) enter() bool {
+	return r.enterWithin(MaxNodes, MaxDepth)
+}
+
+// enterWithin reports the same for a tree with limits of its own.
+func (r *room) enterWithin(mostNodes int, mostDepth int) bool {
 	r.nodes++
 	r.depth++
-	return r.nodes <= MaxNodes && r.depth <= MaxDepth
+	return r.nodes <= mostNodes && r.depth <= mostDepth
 }
 
 func (r *room) leave() {
@@ -164,7 +169,12 @@ func (r *room) holds(f Form) bool {
 		return false
 	}
 	defer r.leave()
-	switch n := nodeOf(f).(type) {
+	return r.holdsFields(nodeOf(f))
+}
+
+// holdsFields reports whether the fields of n are valid, and there is room for the forms in it.
+func (r *room) holdsFields(n node) bool {
+	switch n := n.(type) {
 	case nameNode:
 		return NameValid(n.name) && scopesValid(n.scopes)
 	case numberNode:
@@ -218,14 +228,19 @@ func holdsItself[T any](tree *T, partsOf func(*T) []T) bool {
 
 // visitForms visits f and the forms in it, in the order of the text.
 func visitForms(f Form, visit func(Form)) {
-	if endless(f) {
-		return
+	if !endless(f) {
+		visitTree(&f, kidsOf, visit)
 	}
-	for work := []Form{f}; len(work) > 0; {
-		g := pop(&work)
-		visit(g)
-		for _, kid := range slices.Backward(g.Kids) {
-			work = append(work, kid)
+}
+
+// visitTree visits a tree, which does not hold itself, and its parts at every level, in the order of the text.
+func visitTree[T any](tree *T, partsOf func(*T) []T, visit func(T)) {
+	for work := []*T{tree}; len(work) > 0; {
+		top := pop(&work)
+		visit(*top)
+		parts := partsOf(top)
+		for i := len(parts) - 1; i >= 0; i-- {
+			work = append(work, &parts[i])
 		}
 	}
 }
@@ -398,15 +413,30 @@ func parseNumber(text string) (int, bool) {
 
 // NamesOf returns the names of a form, each once.
 func NamesOf(f Form) []string {
-	var names []string
-	seen := map[string]bool{}
+	var names nameList
 	visitForms(f, func(g Form) {
-		if g.Kind == KindName && !seen[g.Name] {
-			seen[g.Name] = true
-			names = append(names, g.Name)
+		if g.Kind == KindName {
+			names.add(g.Name)
 		}
 	})
-	return names
+	return names.list
+}
+
+// nameList has names, each once, in the order in which they come first.
+type nameList struct {
+	list []string
+	seen map[string]bool
+}
+
+func (n *nameList) add(name string) {
+	if n.seen[name] {
+		return
+	}
+	if n.seen == nil {
+		n.seen = map[string]bool{}
+	}
+	n.seen[name] = true
+	n.list = append(n.list, name)
 }
 
 // StripForm returns a form without its scopes.
