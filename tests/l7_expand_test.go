@@ -288,18 +288,20 @@ func TestPartsAreExpandedInOrder(t *testing.T) {
 			for _, form := range []string{
 				"((f A) B)", "(f A B)", "(1 2 A (g B))", "(if A B 1)", "(if 1 A B)", "(if A 1 B)", "(lambda (y) (f A B))", "((lambda (y) A) B)",
 				"(let ((y A) (z B)) 1)", "(let ((y A)) B)", "(let ((y (f A)) (z 1)) B)", "(let-syntax () (f A B))",
-				// Values come in front of names that are bound twice.
-				"(let ((y A) (y B)) 1)", "(let ((y 1) (y A)) B)",
+				// Values come in front of names that are bound twice, and of what is no name.
+				"(let ((y A) (y B)) 1)", "(let ((y 1) (y A)) B)", "(let ((5 A)) B)", "(let ((5 A) (() B)) B)",
+				"(let ((y A) (5 B)) B)", "(let ((5 1) (y A)) B)", "(let (((y) A) (y B) (y B)) B)", "(let ((y (let ((5 A)) B)) (5 B)) B)",
 			} {
 				text := strings.NewReplacer("A", first, "B", second).Replace(form)
 				text = strings.ReplaceAll(text, "x{1,90,91}", many)
 				checkExpands(t, 5, []expandCase{{around(text), want}})
 			}
 		}
-		// The shape of a form, with the names in it, comes in front of its parts, and its names in front of its body.
+		// The shape of a form comes in front of its parts, and what it binds in front of its body.
 		for _, form := range []string{
-			"(if A 1)", "(lambda (y 5) A)", "(lambda (y y) A)", "(let ((y A) (5 A)) A)", "(let ((y A)) A A)", "(let ((y A) z) A)",
-			"(let ((y 1) (y 1)) A)", "(let-syntax ((m 1)) A)", "(let-syntax ((5 (rules ()))) A)",
+			"(if A 1)", "(lambda (y 5) A)", "(lambda (y y) A)", "(let ((5 1)) A)", "(let ((y 1) (() 2)) A)",
+			"(let ((y A)) A A)", "(let ((5 A)) A A)", "(let ((y A) z) A)", "(let ((5 A) z) A)", "(let ((5 A) (z)) A)", "(let ((y A) 5) A)",
+			"(let ((5 A) (z 1 2)) A)", "(let ((5 A)))", "(let ((y 1) (y 1)) A)", "(let-syntax ((m 1)) A)", "(let-syntax ((5 (rules ()))) A)",
 			"(let-syntax ((m (rules ())) (m (rules ()))) A)",
 		} {
 			checkExpands(t, 5, []expandCase{{around(strings.ReplaceAll(form, "A", first)), "forms"}})
@@ -393,6 +395,7 @@ func TestScopesThatThereAre(t *testing.T) {
 	full := "(let-syntax ((m (rules ()))) (list " + rows(98, "f") + " %s))"
 	for body, want := range map[string]string{
 		"(lambda (x))": "forms", "(lambda (5) 1)": "forms", "(lambda (x x) 1)": "spent", "(let ((x ())) 1)": "forms", "(let ((x if)) 1)": "use",
+		"(let ((5 1)) 1)": "forms", "(let ((5 if)) 1)": "use",
 		"(let ((x 1)) 1)": "spent", "(let-syntax ((m 1)) 1)": "spent", "(let-syntax (m) 1)": "forms", "(m)": "spent", "m": "use",
 	} {
 		checkExpands(t, 60, []expandCase{{fmt.Sprintf(full, body), want}})

@@ -154,7 +154,6 @@ func (r *renaming) coreForm(number int, parts []impl.Form, env *region) impl.Cor
 			others = append(others, part.Kids[1])
 			part = part.Kids[0]
 		}
-		require(part.Kind == impl.KindName, impl.ExpandForms)
 		names = append(names, part)
 	}
 	switch number {
@@ -174,7 +173,14 @@ func requireApart(names []impl.Form, i int) {
 	}
 }
 
+func requireNames(forms []impl.Form) {
+	for _, f := range forms {
+		require(f.Kind == impl.KindName, impl.ExpandForms)
+	}
+}
+
 func (r *renaming) function(names []impl.Form, body impl.Form, env *region) impl.Core {
+	requireNames(names)
 	var ids []int
 	for i, name := range names {
 		requireApart(names, i)
@@ -186,6 +192,7 @@ func (r *renaming) function(names []impl.Form, body impl.Form, env *region) impl
 }
 
 func (r *renaming) letSyntax(names []impl.Form, described []impl.Form, body impl.Form, env *region) impl.Core {
+	requireNames(names)
 	var macros []*renamedMacro
 	for i, name := range names {
 		f := described[i]
