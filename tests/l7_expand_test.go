@@ -394,9 +394,9 @@ func TestScopesThatThereAre(t *testing.T) {
 	// When there is no scope left, the shape still counts, and a use has neither a step nor a rule.
 	full := "(let-syntax ((m (rules ()))) (list " + rows(98, "f") + " %s))"
 	for body, want := range map[string]string{
-		"(lambda (x))": "forms", "(lambda (5) 1)": "forms", "(lambda (x x) 1)": "spent", "(let ((x ())) 1)": "forms", "(let ((x if)) 1)": "use",
-		"(let ((5 1)) 1)": "forms", "(let ((5 if)) 1)": "use",
-		"(let ((x 1)) 1)": "spent", "(let-syntax ((m 1)) 1)": "spent", "(let-syntax (m) 1)": "forms", "(m)": "spent", "m": "use",
+		"(lambda (x))": "forms", "(lambda (5) 1)": "forms", "(lambda (x) 1)": "spent", "(let ((x ())) 1)": "forms", "(let ((x if)) 1)": "use",
+		"(let ((5 1)) 1)": "forms", "(let ((5 if)) 1)": "use", "(let ((x 1)) 1)": "spent",
+		"(let-syntax ((n (rules ()))) 1)": "spent", "(let-syntax (m) 1)": "forms", "(m)": "spent", "m": "use",
 	} {
 		checkExpands(t, 60, []expandCase{{fmt.Sprintf(full, body), want}})
 	}
@@ -422,7 +422,6 @@ func TestScopesOfNamesInExpansions(t *testing.T) {
 		{"(quote " + x24 + ")", "'x"},
 		{"(lambda (" + x23 + ") 1)", "(fun (#11) 1)"},
 		{"(lambda (" + x24 + ") 1)", "spent"},
-		{"(lambda (y y) " + x24 + ")", "spent"},
 		// The values of let, and the names of core forms, do not have the new scope.
 		{"(let ((y " + x24 + ")) 1)", "((fun (#11) 1) x)"},
 		{"(let ((y 1)) " + x24 + ")", "spent"},
@@ -452,6 +451,68 @@ func TestScopesOfNamesInExpansions(t *testing.T) {
 	})
 }
 
+// TestFormsAreToldInFrontOfRoom binds names that cannot be bound where there is no room for them either.
+func TestFormsAreToldInFrontOfRoom(t *testing.T) {
+	x24 := manyScopes("x", 24)
+	for _, c := range []struct{ binder, want string }{
+		{"(lambda (y) B)", "spent"},
+		{"(lambda (y y) B)", "forms"},
+		{"(lambda (y z y) B)", "forms"},
+		{"(lambda (y y{1}) B)", "forms"},
+		{"(lambda (y y{2}) B)", "spent"},
+		{"(lambda (y{2,5} z y{2,5}) B)", "forms"},
+		{"(let ((y 1) (y 2)) B)", "forms"},
+		{"(let ((y 1) (z 2)) B)", "spent"},
+		{"(let ((y if) (y 2)) B)", "use"},
+		{"(let-syntax ((m 1)) B)", "forms"},
+		{"(let-syntax ((m (rules))) B)", "forms"},
+		{"(let-syntax ((m (rules ())) (n (rules () (1 1)))) B)", "forms"},
+		{"(let-syntax ((m (rules ())) (n (rules ()))) B)", "spent"},
+		{"(let-syntax ((m (rules ())) (m (rules ()))) B)", "forms"},
+		{"(let-syntax ((m (rules ())) (m{1} (rules ()))) B)", "forms"},
+		// Rules are read with the new scope in all names, where names can be the same that are not so without it.
+		{"(let-syntax ((m (rules (y y{2})))) B)", "spent"},
+		{"(let-syntax ((m (rules (y y{1})))) B)", "forms"},
+		{"(let-syntax ((m (rules () ((_ y{1} ...) (f y ...))))) B)", "spent"},
+		{"(let-syntax ((m (rules () ((_ y{2} ...) (f y ...))))) B)", "forms"},
+	} {
+		for _, body := range []string{x24, "(quote (" + x24 + "))", "(f (" + x24 + "))"} {
+			checkExpands(t, 9, []expandCase{{strings.ReplaceAll(c.binder, "B", body), c.want}})
+		}
+	}
+	checkExpands(t, 9, []expandCase{
+		{"(let-syntax ((m (rules () ((_ y{1} ...) (f y ...))))) (m 1 2))", "(f 1 2)"},
+		{"(let-syntax ((m (rules () ((_ y{1} ...) (f y ... " + x24 + "))))) 1)", "spent"},
+		{"(let-syntax ((m (rules () ((_ y{2} ...) (f y ... " + x24 + "))))) 1)", "forms"},
+		{"(let-syntax ((m (rules (y y{1} " + x24 + ")))) 1)", "forms"},
+		{"(let-syntax ((m (rules (y y{2} " + x24 + ")))) 1)", "spent"},
+		{"(let-syntax ((m " + x24 + ")) 1)", "forms"},
+		{"(let-syntax ((m (" + x24 + " ()))) 1)", "forms"},
+		{"(let-syntax ((m (rules () (" + x24 + " 1)))) 1)", "forms"},
+		{"(let-syntax ((m (rules () ((_) " + x24 + "))) (n (rules 1))) 1)", "forms"},
+		{"(let-syntax ((m (rules () ((_) " + x24 + "))) (m (rules ()))) 1)", "forms"},
+		{"(let-syntax ((" + x24 + " (rules))) 1)", "forms"},
+		{"(lambda (" + x24 + " y y) 1)", "forms"},
+		{"(lambda (" + x24 + " " + x24 + ") 1)", "forms"},
+		{"(lambda (y " + x24 + " z) 1)", "spent"},
+		{"(let ((" + x24 + " 1) (y 1) (y 2)) 1)", "forms"},
+		{"(let ((" + x24 + " 1) (" + x24 + " 2)) 1)", "forms"},
+		// A name that another form has bound with the same scopes.
+		{"(list (lambda (y{1,2}) 1) (lambda (y{1}) " + x24 + "))", "forms"},
+		{"(list (lambda (y{1,3}) 1) (lambda (y{1}) " + x24 + "))", "spent"},
+		{"(list (lambda (y{1,2}) 1) (let-syntax ((y{1} (rules ()))) " + x24 + "))", "forms"},
+	})
+	// There is no scope for a name in the body, nor for the region.
+	full := "(list " + strings.Repeat(functions(20, "1")+" ", 4) + functions(19, "1") + " %s)"
+	for binder, want := range map[string]string{
+		"(lambda (y) 1)": "spent", "(lambda (y y) 1)": "forms", "(lambda (y y{99}) 1)": "spent", "(let ((y 1) (y 2)) 1)": "forms",
+		"(let-syntax ((m 1)) 1)": "forms", "(let-syntax ((m (rules ()))) 1)": "spent", "(let-syntax ((m (rules ())) (m (rules ()))) 1)": "forms",
+		"(let-syntax ((m (rules (y y{99})))) 1)": "spent", "(let-syntax ((m (rules (y y)))) 1)": "forms",
+	} {
+		checkExpands(t, 9, []expandCase{{fmt.Sprintf(full, binder), want}})
+	}
+}
+
 func TestBindingsThatThereAre(t *testing.T) {
 	names := func(n int, format string) string {
 		var texts []string
@@ -471,7 +532,7 @@ func TestBindingsThatThereAre(t *testing.T) {
 	checkExpands(t, 60, []expandCase{
 		{"(lambda (" + names(55, "x%d") + ") x54)", "(fun (" + ids(1, 55) + ") " + last(55) + ")"},
 		{"(lambda (" + names(56, "x%d") + ") x54)", "spent"},
-		{"(lambda (" + names(56, "x%d") + " x0) 1)", "spent"},
+		{"(lambda (" + names(56, "x%d") + " x0) 1)", "forms"},
 		{"(lambda (" + names(55, "x%d") + " x0) 1)", "forms"},
 		{"(lambda (x0 " + names(56, "x%d") + ") 1)", "forms"},
 		{"(let (" + names(55, "(x%d 1)") + ") x54)",
@@ -480,7 +541,10 @@ func TestBindingsThatThereAre(t *testing.T) {
 		{"(let-syntax (" + names(55, "(x%d (rules ()))") + ") 1)", "1"},
 		{"(let-syntax (" + names(56, "(x%d (rules ()))") + ") 1)", "spent"},
 		{"(let-syntax (" + names(55, "(x%d (rules ()))") + " (y (rules))) 1)", "forms"},
-		{"(let-syntax (" + names(56, "(x%d (rules ()))") + " (y (rules))) 1)", "spent"},
+		{"(let-syntax (" + names(56, "(x%d (rules ()))") + " (y (rules))) 1)", "forms"},
+		{"(let-syntax (" + names(56, "(x%d (rules ()))") + " (x0 (rules ()))) 1)", "forms"},
+		{"(let (" + names(56, "(x%d 1)") + " (x0 1)) 1)", "forms"},
+		{"(let (" + names(56, "(x%d 1)") + " (x0 if)) 1)", "use"},
 		{"(let-syntax (" + names(56, "(x%d (rules ()))") + " (5 (rules ()))) 1)", "forms"},
 		{"(let-syntax (" + names(54, "(x%d (rules ()))") + ") (lambda (y) y))", "(fun (#65) #65)"},
 		{"(let-syntax (" + names(54, "(x%d (rules ()))") + ") (lambda (y z) y))", "spent"},
